@@ -1,0 +1,1 @@
+"""Programs for many hands, played by few, whoever stops."""
