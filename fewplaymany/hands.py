@@ -15,7 +15,10 @@ class Hand:
     """
 
     def __init__(self, block, many, number, word):
+        self.block = block
+        self.many = many
         self.number = number
+        self.word = word
         self.known = {"mine": word, "me": number, "many": many}
         self.place = ((block, 0, 1),)
         self.item = None
@@ -23,6 +26,17 @@ class Hand:
         self.run = []
         self.said = None
         self.goes_on()
+
+    def copy(self):
+        """A Hand that stands as this one does, by itself."""
+        other = Hand(self.block, self.many, self.number, self.word)
+        other.known = dict(self.known)
+        other.place = self.place
+        other.item = self.item
+        other.due = self.due
+        other.run = list(self.run)
+        other.said = self.said
+        return other
 
     def step(self, told=None):
         """Does the step that is due, and returns the STEP; told is what is seen or answered."""

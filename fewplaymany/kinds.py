@@ -6,6 +6,8 @@ FIGURES = "0123456789"
 # Python itself refuses to read integers of more than 4300 figures.
 MOST_FIGURES = 4000
 
+MOST_WEAVING = 3000
+
 
 def is_whole(value):
     """Whether value is an integer: an int that is not a bool."""
@@ -24,6 +26,25 @@ def is_lot(value):
     if not all([is_whole(thing) and thing >= 0 for thing in value]):
         return False
     return all([one < other for one, other in zip(value, value[1:])])
+
+
+def is_below(value, many):
+    """Whether value is the number of one of so many hands, or other things."""
+    return is_whole(value) and 0 <= value < many
+
+
+def is_weaving(value, many):
+    """Whether value is a weaving of so many hands."""
+    if not isinstance(value, tuple) or len(value) > MOST_WEAVING:
+        return False
+    return all([is_below(thing, many) for thing in value])
+
+
+def are_words(value, many):
+    """Whether value is a tuple of a WORD or None for each of so many hands."""
+    if not isinstance(value, tuple) or len(value) != many:
+        return False
+    return all([thing is None or is_word(thing) for thing in value])
 
 
 def is_name(word):

@@ -9,7 +9,16 @@ MOST_LINES = 61
 MOST_STEPS = 200
 
 
-class Program:
+class AnyProgram:
+    """What all PROGRAMs are, whatever tells their hands what to do.
+
+    Each has `many`, `boxes`, and `enter(number, word)`: the hand of this number with this
+    word, as it stands at first. Such a hand has what Hand (hands.py) has: `due`, `run`,
+    `said`, `step` and `copy`.
+    """
+
+
+class Program(AnyProgram):
     """A program by its text, with what the text tells of it."""
 
     def __init__(self, text):

@@ -111,9 +111,10 @@ class Language(unittest.TestCase):
         self.none(place for place, node in nodes(ast.FunctionDef) if node.name.startswith("__") and node.name not in DOUBLE)
 
     def test_builtins(self):
-        names = [(place, node.id) for place, node in nodes(ast.Name)]
+        # Examples that were run before leave the name _ among the builtins.
+        names = [(place, node.id) for place, node in nodes(ast.Name) if node.id != "_"]
         self.none(name for name in names if hasattr(builtins, name[1]) and name[1] not in FUNCTIONS)
-        taken = [(place, node.id) for place, node in nodes(ast.Name) if not isinstance(node.ctx, ast.Load)]
+        taken = [(place, node.id) for place, node in nodes(ast.Name) if not isinstance(node.ctx, ast.Load) and node.id != "_"]
         taken += [(place, node.arg) for place, node in nodes(ast.arg)]
         taken += [(f"{path.name}:{node.lineno}", node.name) for path in FILES for node in TREES[path].body
                   if isinstance(node, (ast.FunctionDef, ast.ClassDef))]
