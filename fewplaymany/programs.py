@@ -13,8 +13,8 @@ class AnyProgram:
     """What all PROGRAMs are, whatever tells their hands what to do.
 
     Each has `many`, `boxes`, and `enter(number, word)`: the hand of this number with this
-    word, as it stands at first. Such a hand has what Hand (hands.py) has: `due`, `run`,
-    `said`, `step` and `copy`.
+    word, as it stands at first. Such a hand has `due`, `run`, `step` and `copy` as Hand
+    (hands.py) has them.
     """
 
 

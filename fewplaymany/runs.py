@@ -25,9 +25,7 @@ def does(house, thing):
     if not isinstance(thing, tuple) or len(thing) != 3:
         return False
     hand, kind, matter = thing
-    if not is_below(hand, house.program.many) or not isinstance(kind, str):
-        return False
-    due = house.next(hand)
+    due = house.next(hand) if is_below(hand, house.program.many) else None
     if due is None:
         return False
     if kind == "forget":

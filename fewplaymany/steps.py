@@ -1,6 +1,6 @@
 """STEPs: which values are such, and their lines in the text of a run (sections 2 and 5)."""
 
-from fewplaymany.kinds import is_below, is_word, number_in
+from fewplaymany.kinds import integer_in, is_below, is_word
 from fewplaymany.values import is_value, value_text, values_in
 
 # Hands and boxes in STEPs are below this number, and no look sees more boards.
@@ -12,7 +12,7 @@ def is_step(value):
     if not isinstance(value, tuple) or len(value) != 3:
         return False
     hand, kind, matter = value
-    return is_below(hand, MOST_HANDS) and isinstance(kind, str) and is_matter(kind, matter)
+    return is_below(hand, MOST_HANDS) and is_matter(kind, matter)
 
 
 def is_matter(kind, matter):
@@ -52,11 +52,11 @@ def step_text(step):
 def step_in(line):
     """The STEP of a line, None if it is none."""
     words = line.split(" ")
-    hand = number_in(words[0], 0, MOST_HANDS - 1)
     things = values_in(words[2:])
-    if hand is None or len(words) < 2 or things is None:
+    if len(words) < 2 or things is None:
         return None
-    step = (hand, words[1], matter_of(words[1], things))
+    step = (integer_in(words[0]), words[1], matter_of(words[1], things))
+    # Only its own line writes a STEP, so nothing that the line has too much is overlooked.
     return step if is_step(step) and step_text(step) == line else None
 
 

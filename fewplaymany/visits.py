@@ -15,7 +15,7 @@ SAY = ("say",)
 class Player:
     """A player on its way through the turns by which it visits hands.
 
-    `due`, `run` and `said` are as of a Hand (hands.py). `hands` has each hand as far as
+    `due` and `run` are as of a Hand (hands.py). `hands` has each hand as far as
     the player knows it, None ahead of its door 0. `plan` tells what this visit has still to do:
     "look" for what is brought to `door`, "come" there with level 1, "see" who is at 2,
     "settle" for level 2 or 0, "ask" there; "write" for the hand; or "say".
@@ -35,7 +35,6 @@ class Player:
         self.board = empty_board(program.many)
         self.run = []
         self.log = []
-        self.said = None
         self.looked = None
         self.level = None
         self.begins()
@@ -46,7 +45,6 @@ class Player:
         other.board = self.board
         other.run = list(self.run)
         other.log = list(self.log)
-        other.said = self.said
         other.looked = self.looked
         other.level = self.level
         other.hands = [None if hand is None else hand.copy() for hand in self.hands]
@@ -99,7 +97,6 @@ class Player:
             return
         self.plan = COME if door == 0 else LOOK_AND_COME
         self.brought = self.word
-        self.looked = None
 
     def passes_over(self, hand):
         """Lets the hand go on over all writes that are no newer than what the board shows."""
@@ -133,7 +130,6 @@ class Player:
         what = self.plan[0]
         self.plan = self.plan[1:]
         if kind == "say":
-            self.said = self.due[1]
             self.due = None
             return step
         if kind == "write":
@@ -146,7 +142,7 @@ class Player:
 
     def behind_write(self, what):
         """Takes to heart what it has written."""
-        if what == "come" and self.looked is not None:
+        if what == "come" and self.door[1] > 0:
             hand, door = self.door
             self.log.append((self.looked, "look", hand, door, self.brought))
         elif what == "write":

@@ -207,6 +207,8 @@ class Steps(Case):
                     self.refuses(NotAsking, hand, house.answers, hand)
                 self.same(house.step(hand, answer), plain.step(hand, answer), text)
                 steps += 1
+                if any_of.random() < 0.2:
+                    house = house.copy()
             self.same([house.boards, house.said, house.run, len(house)],
                       [tuple(plain.boards), tuple(plain.said), tuple(plain.run), len(plain.run)])
         self.assertGreater(steps, 5000)

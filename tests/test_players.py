@@ -375,6 +375,8 @@ class PlainestTelling(Case):
                 else:
                     self.assertEqual(house.step(player), other.step(player), (seed, text))
                     steps += 1
+                    if any_of.random() < 0.05:
+                        house = house.copy()
             says += len([word for word in house.said if word is not None])
             self.assertEqual([house.boards, house.said, house.run], [tuple(other.boards), tuple(other.said), tuple(other.run)])
             self.same([judged(program, words, house.run), len(house)], [("run",), len(other.run)])

@@ -134,16 +134,17 @@ class Steps(Case):
         self.same(spans(reads)[-1][:3], (0, "look", ((0, None), (1, 1), (1, 2))))
 
     def test_a_look_that_was_brought_along_twice(self):
-        """Hand 2's LOOK goes along with hand 1's write to hand 0, which takes it."""
-        text = text_of("if same me 0", "look s", "end", "if same me 1", "write 1", "write 11", "else", "again 9", "write 2", "end", "end",
-                       "say count s", hands=3)
-        reads = Reads(Program(text), (1, 2, 3))
-        reads.weave((1,) * 7 + (1,) * 3)
-        reads.weave((0,) * 3)
-        reads.weave((2,) * 7 + (1,) * 3 + (2,) * 7 + (1,) * 3)
-        self.same([reads.next(1), reads.lookings[1].look], [("write", 11), ((0, None), (1, 1), (1, 2))])
-        reads.weave((0,) * 3 + (2,) * 7 + (0,) * 3)
-        self.same(spans(reads)[-1][:3], (0, "look", ((0, None), (1, 1), (2, 2))))
+        """Hand 2's LOOK goes along with hand 1's write to hand 0, which takes it, though hand 3 wrote since."""
+        text = text_of("if same me 0", "look s", "else", "again 9", "write me", "end", "end", "say count s", hands=4)
+        reads = Reads(Program(text), (1, 2, 3, 4))
+        reads.weave((0,) * 4 + (1,) * 9 + (0,) * 4)
+        reads.weave((1,) * 4 + (2,) * 17 + (3,) * 9 + (1,) * 4 + (2,) + (1,) * 4)
+        self.same(reads.next(1), ("write", 1))
+        reads = reads.copy()
+        reads.weave((1,) + (0,) * 4)
+        self.same(spans(reads)[-1][:3], (0, "look", ((0, None), (1, 1), (1, 2), (0, None))))
+        self.same(plain_run(reads), ((1, "write", 1), (2, "write", 2), (0, "look", (None, 1, 2, None)), (3, "write", 3), (2, "write", 2),
+                                     (1, "write", 1)))
         self.same(shows_plain_run(reads, plain_run(reads)), True)
 
     def test_at_most_so_many_reads(self):
@@ -229,6 +230,8 @@ class Steps(Case):
                 else:
                     self.same(reads.step(hand), plain.step(hand), text)
                     steps += 1
+                    if any_of.random() < 0.1:
+                        reads = reads.copy()
             self.same([reads.boards, reads.said, reads.run, len(reads), spans(reads)],
                       [tuple(plain.boards), tuple(plain.said), tuple(plain.run), len(plain.run), tuple(plain.spans)])
             found = plain_run(reads)

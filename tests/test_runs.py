@@ -29,7 +29,7 @@ NO_STEPS = (
     (0, "ask", (0,)), (0, "ask", (0, 1, 2)), (0, "ask", [0, 1]), (0, "ask", (6, 1)), (0, "ask", (-1, 1)), (0, "ask", (0, 100)),
     (0, "ask", (False, 1)), (0, "ask", (0, True)), (0, "ask", (0, None)), (0, "answer", None), (0, "answer", (0, 100)),
     (0, "answer", (6, 0)), (0, "answer", (0, 1.0)), (0, "answer", [0, 1]), (0, "forget", 0), (0, "forget", ()), (0, "forget", False),
-    (0, "read", (0, 1)), (0, "level", 1),
+    (0, "read", (0, 1)), (0, "level", 1), (0, "read", None), (0, "", None), (0, "forgets", None), (0, None, None), (0, ["forget"], None),
 )
 
 # No runs.

@@ -239,6 +239,8 @@ class Told(Case):
                 else:
                     house.step(player)
                     other.step(player)
+                    if any_of.random() < 0.1:
+                        house = house.copy()
                 if any_of.random() < 0.85:
                     continue
                 moments += 1
