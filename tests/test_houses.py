@@ -10,7 +10,7 @@ from fewplaymany.errors import (
 from fewplaymany.houses import House
 from fewplaymany.players import forget, Played
 from fewplaymany.programs import Program
-from fewplaymany.tasks import judged_house, Task
+from fewplaymany.tasks import judged_house, renamed, Task
 from helpers import ASKING, Case, LEAST, NO_HANDS, PAIR, programs_barred, ROUNDS, some_values, text_of
 from plain import Maker
 from plain_players import PlainHouse, PlainProgram
@@ -280,6 +280,30 @@ class Boxes(Case):
         for term in ("none", "-1", "row 1 1", "plus 99 1"):
             house = House(Program(text_of(f"ask 0 {term} got", "say got")), (1, 2), (zero,))
             self.same([house.next(0), house.step(0), house.answers(0)], [("ask", 0, 0), (0, "ask", (0, 0)), (4,)])
+
+    def test_boxes_and_words_by_other_names(self):
+        """Boxes that bear other numbers, and tasks whose words are called otherwise, answer the same by these names."""
+        lines = ["ask {0} mine a", "ask {1} mine b", "say 0"]
+        tasks = (WIDE, AGREE)
+        names = {word: 90 - word for word in (1, 2, 3, 7, 8, 9)}
+        others = [renamed(task, tuple([(word, names[word]) for word in sorted({*task.words, *task.spoken})])) for task in tasks]
+        one = House(Program(text_of(*[line.format(0, 1) for line in lines])), (1, 2), tasks)
+        other = House(Program(text_of(*[line.format(2, 0) for line in lines])), (89, 88), (others[1], AGREE, others[0]))
+        any_of = random.Random(2)
+        for _ in range(40):
+            hand = any_of.randrange(2)
+            due = one.next(hand)
+            if due is None:
+                continue
+            if due[0] == "answer":
+                self.assertEqual(sorted([names[word] for word in one.answers(hand)]), list(other.answers(hand)))
+                word = any_of.choice(one.answers(hand))
+                one.step(hand, word)
+                other.step(hand, names[word])
+            else:
+                one.step(hand)
+                other.step(hand)
+        self.same([len(one), one.said], [len(other), other.said])
 
     def test_answers_as_the_task_lets(self):
         """Answers are just the words by which, one behind the other, all answered is right for all brought."""

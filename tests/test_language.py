@@ -107,6 +107,22 @@ class Language(unittest.TestCase):
         self.none(place for place, node in nodes((ast.FunctionDef, ast.ClassDef)) if node.decorator_list)
         self.none(place for place, node in nodes(ast.ExceptHandler) if node.type is None)
 
+    def test_what_a_loop_goes_over_is_not_changed_in_it(self):
+        changing = ("append", "extend", "insert", "pop", "remove", "clear", "reverse", "setdefault", "update")
+        for place, node in nodes(ast.For):
+            gone_over = {ast.unparse(inner) for inner in ast.walk(node.iter) if isinstance(inner, (ast.Name, ast.Attribute))}
+            for inner in [part for line in node.body for part in ast.walk(line)]:
+                if isinstance(inner, ast.Call) and isinstance(inner.func, ast.Attribute) and inner.func.attr in changing:
+                    self.assertNotIn(ast.unparse(inner.func.value), gone_over, place)
+                if isinstance(inner, ast.Subscript) and not isinstance(inner.ctx, ast.Load):
+                    self.assertNotIn(ast.unparse(inner.value), gone_over, place)
+
+    def test_stars_in_calls(self):
+        for place, node in nodes(ast.Call):
+            for inner in [inner.value for inner in node.args if isinstance(inner, ast.Starred)]:
+                self.assertIsInstance(inner, (ast.Name, ast.Attribute), place)
+                self.assertTrue(isinstance(inner, ast.Name) or isinstance(inner.value, ast.Name), place)
+
     def test_double_underscores(self):
         self.none(place for place, node in nodes(ast.FunctionDef) if node.name.startswith("__") and node.name not in DOUBLE)
 

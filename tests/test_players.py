@@ -378,9 +378,19 @@ class PlainestTelling(Case):
                     if any_of.random() < 0.05:
                         house = house.copy()
             says += len([word for word in house.said if word is not None])
+            self.one_word_a_door(house, other)
             self.assertEqual([house.boards, house.said, house.run], [tuple(other.boards), tuple(other.said), tuple(other.run)])
             self.same([judged(program, words, house.run), len(house)], [("run",), len(other.run)])
         self.assertGreater(min(steps, forgets * 5, says * 25), 5000)
+
+    def one_word_a_door(self, house, plain):
+        """All who are told a word at a door are told the same one, and its winner's board shows it there."""
+        words = {}
+        for _, _, what, *news in plain.news:
+            if what == "told":
+                hand, door, winner, value = news
+                self.assertEqual(words.setdefault((hand, door), (winner, value)), (winner, value))
+                self.assertIn((hand, door, 2, value), house.boards[winner][1])
 
 
 if __name__ == "__main__":
