@@ -1,4 +1,4 @@
-"""The lines of a program (section 4), read into blocks, and their greatest number of steps.
+"""The lines of a program (section 4), read into blocks, and the greatest numbers of steps and asks.
 
 A block is a tuple of items: ("keep", NAME, E), ("write", E), ("look", NAME),
 ("wait", NAME, C), ("ask", NAME, E, box), ("say", E), ("if", C, block, block of else)
@@ -10,7 +10,7 @@ from fewplaymany.terms import is_free_name, TERM, term_in, TEST
 
 MOST_DEEP = 4
 
-STEPS = {"keep": 0, "write": 1, "look": 1, "wait": 1, "ask": 2}
+STEPS = {"keep": 0, "write": 1, "look": 1, "wait": 1, "ask": 2, "say": 1}
 
 
 class Reader:
@@ -149,40 +149,53 @@ READERS = {
 
 def most_steps(block):
     """The greatest number of steps along any way through the lines of a program."""
-    return measured(block)[1]
+    return measured(block, None)[1]
 
 
-def measured(block):
+def most_asks(block, box):
+    """The greatest number of times that a box is asked along any way through the lines of a program."""
+    return measured(block, box)[1]
+
+
+def measured(block, box):
     """The greatest numbers of steps of ways that pass through a block, and that end in it.
 
-    None stands for either of them where there is no such way.
+    None stands for either of them where there is no such way. Beside a box, its asks are
+    counted instead of steps.
     """
     through, ended = 0, None
     for item in block:
         # No way comes to what stands behind.
         if through is None:
             break
-        passing, ending = measured_item(item)
+        passing, ending = measured_item(item, box)
         ended = greater(ended, plus(through, ending))
         through = plus(through, passing)
     return through, ended
 
 
-def measured_item(item):
+def measured_item(item, box):
     """As measured, of one item."""
     if item[0] == "say":
-        return None, 1
+        return None, weight_of(item, box)
     if item[0] == "if":
-        one, other = measured(item[2]), measured(item[3])
+        one, other = measured(item[2], box), measured(item[3], box)
         return greater(one[0], other[0]), greater(one[1], other[1])
     if item[0] == "again":
-        return measured_again(item[1], item[2])
-    return STEPS[item[0]], None
+        return measured_again(item[1], item[2], box)
+    return weight_of(item, box), None
 
 
-def measured_again(times, block):
+def weight_of(item, box):
+    """How many steps an item takes; beside a box, how often it asks this box."""
+    if box is None:
+        return STEPS[item[0]]
+    return 1 if item[0] == "ask" and item[3] == box else 0
+
+
+def measured_again(times, block, box):
     """As measured, of a block that is done so many times."""
-    passing, ending = measured(block)
+    passing, ending = measured(block, box)
     if passing is None:
         return None, ending
     return times * passing, plus((times - 1) * passing, ending)

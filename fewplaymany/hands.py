@@ -1,6 +1,7 @@
 """What a hand does by a Program (section 4)."""
 
 from fewplaymany.kinds import is_word
+from fewplaymany.steps import step_of
 from fewplaymany.terms import narrowed, worth
 
 
@@ -9,59 +10,52 @@ class Hand:
 
     `due` is its next step: ("write", VALUE), ("look",), ("say", WORD),
     ("ask", box, WORD) or ("answer", box); None when it has said. `run` has the STEPs
-    that it did, and `said` is the WORD that it said, None before. `place` has each block
-    in which it is, the outermost one first: (block, its next item, how many times it is
-    still done).
+    that it did, and `said` is the WORD that it said, None before. `in_vain` tells whether
+    the last one was a look of a wait behind which what it waits for did not hold. `place`
+    has each block in which it is, the outermost one first: (block, its next item, how many
+    times it is still done).
     """
 
-    def __init__(self, block, many, number, word):
-        self.block = block
+    def __init__(self, body, many, number, word):
+        self.body = body
         self.many = many
         self.number = number
         self.word = word
         self.known = {"mine": word, "me": number, "many": many}
-        self.place = ((block, 0, 1),)
+        self.place = ((body, 0, 1),)
         self.item = None
         self.due = None
         self.run = []
         self.said = None
+        self.in_vain = False
         self.goes_on()
 
     def copy(self):
         """A Hand that stands as this one does, by itself."""
-        other = Hand(self.block, self.many, self.number, self.word)
+        other = Hand(self.body, self.many, self.number, self.word)
         other.known = dict(self.known)
         other.place = self.place
         other.item = self.item
         other.due = self.due
         other.run = list(self.run)
         other.said = self.said
+        other.in_vain = self.in_vain
         return other
 
     def step(self, told=None):
         """Does the step that is due, and returns the STEP; told is what is seen or answered."""
         kind = self.due[0]
-        step = (self.number, kind, self.matter(told))
+        step = step_of(self.number, self.due, told)
         self.run.append(step)
+        self.in_vain = kind in ("look", "answer") and not self.learns(told)
         if kind == "say":
             self.said = self.due[1]
             self.due = None
         elif kind == "ask":
             self.due = ("answer", self.due[1])
-        elif kind == "write" or self.learns(told):
+        elif not self.in_vain:
             self.goes_on()
         return step
-
-    def matter(self, told):
-        """What the STEP has behind its kind."""
-        kind = self.due[0]
-        if kind == "look":
-            return told
-        if kind == "ask":
-            return self.due[1:]
-        if kind == "answer":
-            return (self.due[1], told)
-        return self.due[1]
 
     def learns(self, told):
         """Keeps what is seen or answered, and tells whether that is all it waits for."""

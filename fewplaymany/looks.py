@@ -44,7 +44,7 @@ class Looking:
 
     def settles(self):
         """Settles the LOOK, behind a round, if it stands now."""
-        newest = self.rounds()[-1]
+        newest = self.read_rounds()[-1]
         moves = self.moves()
         if not any([moved[-1] for moved in moves]):
             self.look = tuple([shown[:2] for shown in newest])
@@ -55,13 +55,13 @@ class Looking:
                 self.lender = (board, newest[board][0])
                 return
 
-    def rounds(self):
+    def read_rounds(self):
         """What was read, round by round."""
         shown = [read[1] for read in self.reads]
         return [shown[at:at + self.many] for at in range(0, len(shown), self.many)]
 
     def moves(self):
         """For each board, of each round but the first, whether its number was not as ahead of it."""
-        rounds = self.rounds()
+        rounds = self.read_rounds()
         pairs = list(zip(rounds, rounds[1:]))
         return [[one[board][0] != other[board][0] for one, other in pairs] for board in range(self.many)]

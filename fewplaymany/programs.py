@@ -1,6 +1,6 @@
 """Programs that tell hands what to do (section 4)."""
 
-from fewplaymany.blocks import most_steps, Reader
+from fewplaymany.blocks import most_asks, most_steps, Reader
 from fewplaymany.errors import BadProgram, Wide
 from fewplaymany.hands import Hand
 from fewplaymany.kinds import number_in
@@ -14,7 +14,8 @@ class AnyProgram:
 
     Each has `many`, `boxes`, and `enter(number, word)`: the hand of this number with this
     word, as it stands at first. Such a hand has `due`, `run`, `step` and `copy` as Hand
-    (hands.py) has them.
+    (hands.py) has them. Those that ask boxes have `most_asks(box)`, how many times a hand
+    can ask a box.
     """
 
 
@@ -32,10 +33,10 @@ class Program(AnyProgram):
         for number, line in enumerate(lines[1:], 2):
             if number > MOST_LINES or not reader.takes(line):
                 raise BadProgram(number)
-        block = reader.whole()
-        if block is None:
+        body = reader.whole()
+        if body is None:
             raise BadProgram(len(lines) + 1)
-        steps = most_steps(block)
+        steps = most_steps(body)
         if steps > MOST_STEPS:
             raise Wide(MOST_STEPS)
         self.text = text
@@ -43,14 +44,18 @@ class Program(AnyProgram):
         self.boxes = reader.boxes
         self.steps = steps
         self.waits = reader.waits
-        self.block = block
+        self.body = body
 
     def __eq__(self, other):
         return isinstance(other, Program) and self.text == other.text
 
     def enter(self, number, word):
         """The Hand of this number, with this word, as it stands at first."""
-        return Hand(self.block, self.many, number, word)
+        return Hand(self.body, self.many, number, word)
+
+    def most_asks(self, box):
+        """The greatest number of times that a hand asks a box along any way through the lines."""
+        return most_asks(self.body, box)
 
 
 def many_in(line):

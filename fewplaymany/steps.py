@@ -1,4 +1,4 @@
-"""STEPs: which values are such, and their lines in the text of a run (sections 2 and 5)."""
+"""STEPs: which values are such, how they come, and their lines in the text of a run (sections 2 and 5)."""
 
 from fewplaymany.kinds import integer_in, is_below, is_word
 from fewplaymany.values import is_value, value_text, values_in
@@ -38,6 +38,18 @@ def is_box_word(matter):
 def are_steps(value):
     """Whether value is a tuple of STEPs."""
     return isinstance(value, tuple) and all([is_step(thing) for thing in value])
+
+
+def step_of(number, due, told):
+    """The STEP by which the hand of this number does what is due; told is what is seen or answered."""
+    kind = due[0]
+    if kind == "look":
+        return (number, kind, told)
+    if kind == "ask":
+        return (number, kind, due[1:])
+    if kind == "answer":
+        return (number, kind, (due[1], told))
+    return (number, kind, due[1])
 
 
 def step_text(step):

@@ -1,4 +1,4 @@
-"""VALUES: which values are such, their texts, and when two are one (section 2)."""
+"""VALUES: which values are such, their texts and sequence, and when two are one (section 2)."""
 
 from fewplaymany.kinds import integer_in, is_whole
 
@@ -39,6 +39,15 @@ def is_same(value, wanted):
     Beside equal integers only their texts tell a bool.
     """
     return value == wanted and repr(value) == repr(wanted)
+
+
+def value_key(value):
+    """What VALUES are sorted by: None, integers, tuples by the first entry at which they are unlike."""
+    if value is None:
+        return (0,)
+    if isinstance(value, tuple):
+        return (2, tuple([value_key(thing) for thing in value]))
+    return (1, value)
 
 
 def value_text(value):

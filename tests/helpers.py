@@ -2,10 +2,13 @@
 
 import unittest
 
+from fewplaymany.benches import Bench
+from fewplaymany.boxes import Filled
 from fewplaymany.houses import House
 from fewplaymany.players import Played
 from fewplaymany.programs import Program
 from fewplaymany.reads import Reads
+from fewplaymany.tables import Tabled
 from fewplaymany.tasks import Task
 
 # The programs of point 4's examples.
@@ -38,6 +41,12 @@ def strict(value):
         return (type(value).__name__, value.text)
     if isinstance(value, Played):
         return ("Played", strict(value.program), value.many, value.turns)
+    if isinstance(value, Tabled):
+        return ("Tabled", value.many, value.rounds, strict(value.table))
+    if isinstance(value, Filled):
+        return ("Filled", strict(value.program), value.box, strict(value.other))
+    if isinstance(value, House):
+        return ("House", strict(value.program), strict(value.words), strict(value.boxes), strict(value.run))
     return (type(value).__name__, repr(value))
 
 
@@ -48,12 +57,36 @@ def some_values():
         (1, 1), (2, 1), (-1,), [], [1], [1, 2], {}, {1: 2}, ((1,),), ([1],), ("within",), ["within"],
         Program("hands 1\nsay 0"), Task("1 : 1"), (Task("1 : 1"),), House(Program(PAIR), (1, 2)), Played(Program(PAIR), 2),
         Reads(Program(PAIR), (1, 2)), ((0, "write", 1),), (0, "write", 1), [(0, "write", 1)], ([0, "write", 1],),
+        Tabled(2, 0, ()), Filled(Program(ASKING), 0, Program(PAIR)), Bench(PAIR, (1, 2)), Bench(PAIR, (1, None), 2),
     ]
+
+
+def bent(value):
+    """Values near to this one: with things out, twice, turned about, a little off, or of another kind, at each place of it."""
+    if isinstance(value, tuple):
+        yield list(value)
+        yield value + (0,)
+        for at, thing in enumerate(value):
+            yield value[:at] + value[at + 1:]
+            yield value[:at + 1] + value[at:]
+            yield value[:at] + value[at:at + 2][::-1] + value[at + 2:]
+            for other in bent(thing):
+                yield value[:at] + (other,) + value[at + 1:]
+    elif isinstance(value, int):
+        yield from (value + 1, value - 1, None, str(value), (value,))
+        if value in (0, 1):
+            yield bool(value)
+    elif isinstance(value, str):
+        yield from (value + "s", value.upper(), "", None)
+    elif value is None:
+        yield from (0, (), False, "-")
+    else:
+        yield None
 
 
 def programs_barred():
     """Values that are no PROGRAM."""
-    return [value for value in some_values() if not isinstance(value, (Program, Played))] + [Program, Played, PAIR]
+    return [value for value in some_values() if not isinstance(value, (Program, Played, Tabled, Filled))] + [Program, Tabled, PAIR]
 
 
 class Case(unittest.TestCase):

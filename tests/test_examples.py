@@ -12,7 +12,7 @@ class Examples(unittest.TestCase):
     def test_examples(self):
         text = FILE.read_text()
         parts = doctest.DocTestParser().get_doctest(text, {}, "examples", str(FILE), 0)
-        self.assertEqual(len(parts.examples), 101)
+        self.assertEqual(len(parts.examples), 169)
         told = []
         doctest.DocTestRunner(verbose=False).run(parts, out=told.append)
         self.assertEqual("".join(told), "")

@@ -38,6 +38,33 @@ INTERFACE = {
         "told": "house", "shows_told": "house value", "begun": "house", "held": "house", "behind": "house", "later": "one other",
         "told_through": "house",
     },
+    "tables": {
+        "Tabled": "many rounds table", "Tabled.__eq__": None, "views": "many rounds words", "wrong_row": "task tabled",
+        "shows_wrong_row": "task tabled value", "decided": "task many rounds", "shows_decided": "task many rounds value",
+    },
+    "chains": {
+        "chosen": "task", "shows_chosen": "task value", "rounds": "task", "plan": "task", "shows_plan": "task value",
+        "made": "task", "shows_made": "task value",
+    },
+    "both": {
+        "solved": "task many stops", "few": "program stops", "many_of": "program many", "same_by": "one other stops",
+        "shows_same_by": "one other stops value", "wall": "many",
+    },
+    "boxes": {"Filled": "program box other", "Filled.__eq__": None, "outer": "house", "shows_outer": "house value"},
+    "every": {
+        "every_said": "program words", "wrong_weaving": "program task words",
+        "shows_wrong_weaving": "program task words value", "stuck": "program words stops",
+        "shows_stuck": "program words stops value",
+    },
+    "benches": {
+        "Bench": "text words players=None", "Bench.__len__": "", "Bench.__contains__": None, "Bench.__eq__": None,
+        "Bench.step": "hand", "Bench.weave": "weaving", "Bench.forget": "player", "Bench.stop": "hand", "Bench.go": "hand",
+        "Bench.watch": "hand", "Bench.unwatch": "hand", "Bench.house": "", "Bench.story": "", "Bench.signs": "",
+        "Bench.undo": "", "Bench.redo": "", "Bench.block": "", "Bench.keep": "", "Bench.tried": "look *keep=False",
+        "Bench.copy": "",
+    },
+    "journals": {"journal": "bench", "read_journal": "text"},
+    "desk": {"Desk": "text", "Desk.say": "line"},
 }
 
 

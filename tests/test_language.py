@@ -89,6 +89,9 @@ class Language(unittest.TestCase):
         known = set()
         left = {path: [node for node in TREES[path].body if isinstance(node, ast.ImportFrom)] for path in FILES}
         for path in FILES:
+            # From the library only what counts may be imported.
+            self.none(node.module for node in left[path] if node.module == "math" and node.names[0].name != "comb")
+            left[path] = [node for node in left[path] if node.module != "math"]
             for node in left[path]:
                 self.assertTrue(node.module.startswith("fewplaymany.") and node.level == 0, path)
                 source = TREES[FOLDER / (node.module.split(".")[1] + ".py")]
