@@ -1,11 +1,11 @@
 """Benches, at which hands or players step, stop, forget and go on (section 17)."""
 
-from fewplaymany.errors import BadHand, BadMany, BadWeaving, HasBoxes, NoBlock, NothingToRedo, NothingToUndo, NotPlayed
+from fewplaymany.errors import BadHand, BadWeaving, HasBoxes, NoBlock, NothingToRedo, NothingToUndo, NotPlayed
 from fewplaymany.errors import NotStopped, NotWatched, Stopped, Watched
 from fewplaymany.houses import House
 from fewplaymany.kinds import is_below, is_weaving, is_whole
 from fewplaymany.lots import lot_of
-from fewplaymany.players import forget, MOST_PLAYERS, Played
+from fewplaymany.players import forget, Played
 from fewplaymany.programs import Program
 from fewplaymany.runs import steps_of
 from fewplaymany.told import held, told
@@ -24,8 +24,6 @@ class Bench:
         program = Program(text)
         if program.boxes > 0:
             raise HasBoxes(program)
-        if players is not None and not is_players(players):
-            raise BadMany(players)
         self.program = program
         self.players = players
         self.words = words
@@ -213,13 +211,6 @@ class Block:
     def __init__(self, bench):
         self.bench = bench
         self.kept = False
-        self.around = None
-        self.place = None
-        self.stopped = ()
-        self.watched = ()
-        self.deeds = 0
-        self.past = ()
-        self.undone = ()
 
     def __enter__(self):
         bench = self.bench
@@ -243,11 +234,6 @@ class Block:
             bench.deeds = self.deeds
             bench.past = self.past
             bench.undone = self.undone
-
-
-def is_players(value):
-    """Whether value is a number of players."""
-    return is_whole(value) and 1 <= value <= MOST_PLAYERS
 
 
 def without(hands, hand):

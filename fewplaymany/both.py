@@ -41,24 +41,17 @@ def text_of_waiting(task, many):
 
 def few(program, stops):
     """The program, for hands of which so many may stop, played by one player more than may stop."""
-    check_program(program)
+    if not isinstance(program, AnyProgram):
+        raise NoProgram(program)
+    if program.boxes > 0:
+        raise HasBoxes(program)
     check_stops(stops)
     return Played(program, stops + 1)
 
 
 def many_of(program, many):
     """The program, for hands that never wait, played by so many players."""
-    check_program(program)
-    check_many(many, 1)
     return Played(program, many)
-
-
-def check_program(program):
-    """Raises NoProgram or HasBoxes unless this is a PROGRAM that asks no boxes."""
-    if not isinstance(program, AnyProgram):
-        raise NoProgram(program)
-    if program.boxes > 0:
-        raise HasBoxes(program)
 
 
 def check_stops(stops):

@@ -37,7 +37,9 @@ class Filled(AnyProgram):
 
     def enter(self, number, word):
         """The FilledHand of this number, with this word, as it stands at first."""
-        return FilledHand(self, number, word)
+        hand = FilledHand(self, number, self.program.enter(number, word))
+        hand.goes_on()
+        return hand
 
     def most_asks(self, box):
         """The greatest number of times that a hand asks a box along any way through the lines of the program."""

@@ -82,8 +82,8 @@ def is_wrong(task, moment):
 def shows_wrong_weaving(program, task, words, value):
     """Whether value is such a result as wrong_weaving tells."""
     found = wrong_weaving(program, task, words)
-    if found is None or value is None:
-        return found is None and value is None
+    if found is None:
+        return value is None
     if not is_weaving(value, program.many) or len(value) != len(found):
         return False
     return is_wrong(task, moment_behind(program, words, value))

@@ -13,22 +13,19 @@ class FilledHand:
     have come by it.
     """
 
-    def __init__(self, filled, number, word):
+    def __init__(self, filled, number, outer):
         self.filled = filled
         self.number = number
-        self.word = word
-        self.outer = filled.program.enter(number, word)
+        self.outer = outer
         self.inner = None
         self.board = (None, None)
         self.run = []
         self.told = []
         self.due = None
-        self.goes_on()
 
     def copy(self):
         """A FilledHand that stands as this one does, by itself."""
-        other = FilledHand(self.filled, self.number, self.word)
-        other.outer = self.outer.copy()
+        other = FilledHand(self.filled, self.number, self.outer.copy())
         other.inner = None if self.inner is None else self.inner.copy()
         other.board = self.board
         other.run = list(self.run)
@@ -38,7 +35,7 @@ class FilledHand:
 
     def goes_on(self):
         """Does what is done at once, and sees to what is due."""
-        if self.inner is None and self.is_at_box():
+        if self.is_at_box():
             self.inner = self.filled.other.enter(self.number, self.outer.due[2])
             self.outer.step()
         # No hand asks this box twice, so the other program is not begun again.

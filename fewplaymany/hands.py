@@ -28,7 +28,6 @@ class Hand:
         self.run = []
         self.said = None
         self.in_vain = False
-        self.goes_on()
 
     def copy(self):
         """A Hand that stands as this one does, by itself."""

@@ -41,7 +41,9 @@ class House:
 
     def copy(self):
         """A House that is equal and stands by itself."""
-        other = House(self.program, self.words, self.boxes)
+        # Its hands are copied, so none has to come anew.
+        other = House(self.program, (None,) * len(self.words), self.boxes)
+        other.words = self.words
         other.boards = self.boards
         other.said = self.said
         other.run = self.run

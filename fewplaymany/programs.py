@@ -51,7 +51,9 @@ class Program(AnyProgram):
 
     def enter(self, number, word):
         """The Hand of this number, with this word, as it stands at first."""
-        return Hand(self.body, self.many, number, word)
+        hand = Hand(self.body, self.many, number, word)
+        hand.goes_on()
+        return hand
 
     def most_asks(self, box):
         """The greatest number of times that a hand asks a box along any way through the lines."""

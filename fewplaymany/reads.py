@@ -44,7 +44,9 @@ class Reads:
 
     def copy(self):
         """An independent one, alike."""
-        other = Reads(self.program, self.words)
+        # Its hands are copied, so none has to come anew.
+        other = Reads(self.program, (None,) * len(self.words))
+        other.words = self.words
         other.boards = self.boards
         other.said = self.said
         other.run = self.run

@@ -6,7 +6,7 @@ import unittest
 from fewplaymany.chains import chosen, made, plan, rounds, shows_chosen, shows_made, shows_plan
 from fewplaymany.errors import NotDone
 from fewplaymany.houses import House
-from fewplaymany.tables import Tabled, wrong_row
+from fewplaymany.tables import decided, Tabled, wrong_row
 from fewplaymany.tasks import judged_house, renamed, Task
 from helpers import bent, Case, some_values
 from plain_chains import are_joined, can_be_joined, choices, distances, is_chosen, is_plan, least_rounds, right_alone, some_tree
@@ -261,6 +261,16 @@ class Plans(Case):
         for value in some_values():
             self.same(shows_plan(task, value), False)
 
+    def test_how_long_chains_may_be(self):
+        for length, most in ((1, 1), (2, 3), (7, 9)):
+            task = walk_task(length)
+            number, mine, its, walks = plan(task)
+            row = [key for key, _ in walks].index((90, 91))
+            for steps in range(length, most + 3):
+                chain = (0,) * (steps - length) + tuple(range(length + 1))
+                value = (number, mine, its, walks[:row] + (((90, 91), chain),) + walks[row + 1:])
+                self.same(shows_plan(task, value), steps <= most, (length, steps))
+
     def test_not_done(self):
         for text in (AGREE, "0 : 0\n3 : 3", "1 : 1\n2 : 2\n3 : 3\n1 2 : 1 2"):
             task = Task(text)
@@ -308,6 +318,9 @@ class Made(Case):
         slow = Task("0 : 0\n3 : 3\n0 3 : 0 3")
         self.same([shows_made(slow, Tabled(2, 0, ((0, 0, 0), (0, 3, 3), (1, 0, 0), (1, 3, 3)))), shows_made(slow, tabled), rounds(slow)],
                   [True, False, 0])
+        # Tables that are right, of more rounds or for more hands.
+        plain = Task("4 : 7")
+        self.same([shows_made(plain, decided(plain, many, number)[1]) for many, number in ((2, 0), (3, 0), (2, 1))], [True, False, False])
         for value in some_values() + [tabled.table, (tabled,), Tabled(1, 1, ()), Tabled(3, 1, ()), Tabled(2, 1, ()), Tabled(2, 2, ())]:
             self.same(shows_made(task, value), False)
 

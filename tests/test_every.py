@@ -353,6 +353,13 @@ class Stuck(Case):
             self.same(shows_stuck(three, (3, 7, 5), 2, value), False)
             self.same(shows_stuck(three, (3, 7, 5), 1, value), value is None)
 
+    def test_who_looks_in_vain_for_a_while(self):
+        late = Program(text_of("if same me 0", "look a", "look a", "write 5", "say 1", "end", "wait s has s 5", "say 2"))
+        for weaving in ((), (1,), (1, 1, 1), (0, 1), (0, 0, 1)):
+            self.same([shows_stuck(late, (3, 7), 0, (weaving, ())), shows_stuck(late, (3, 7), 1, (weaving, (0,)))], [False, True])
+        turned = Program(late.text.replace("me 0", "me 1"))
+        self.same([shows_stuck(turned, (3, 7), 0, ((0,), ())), stuck(turned, (3, 7), 0), shows_stuck(turned, (3, 7), 1, ((1, 1, 1), (1,)))], [False, None, False])
+
     def test_lots_of_hands_that_come(self):
         program = Program(FIRST)
         self.same([stuck(program, (3, 7, None), 0), shows_stuck(program, (3, 7, None), 1, ((), (0,))), shows_stuck(program, (3, 7, None), 1, ((), (2,)))],
@@ -366,6 +373,7 @@ class Stuck(Case):
             self.refuses(NoProgram, value, stuck, value, None, None)
             self.refuses(NoProgram, value, every_said, value, None)
             self.refuses(NoProgram, value, shows_stuck, value, None, None, None)
+            self.refuses(NoProgram, value, shows_stuck, value, None, None, ())
         half = Filled(Program(text_of("ask 0 1 a", "ask 1 1 a", "say a")), 0, Program(PAIR))
         for program in (Program(ASKING), half):
             self.refuses(HasBoxes, program, stuck, program, None, None)
@@ -380,6 +388,9 @@ class Stuck(Case):
             self.refuses(BadStops, stops, shows_stuck, few, (1, 2), stops, None)
         self.refuses(TooMany, 2000, stuck, few, (1, 2), 1)
         self.refuses(TooMany, 2000, shows_stuck, few, (1, 2), 1, None)
+        self.refuses(TooMany, 2000, shows_stuck, few, (1, 2), 1, "none")
+        self.refuses(BadStops, 2, shows_stuck, few, (1, 2), 2, ((), ()))
+        self.refuses(BadWords, (1,), shows_stuck, few, (1,), 2, ((), ()))
         self.refuses(BadStops, 1, stuck, Program("hands 1\nsay 0"), (1,), 1)
 
 

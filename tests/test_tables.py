@@ -7,12 +7,13 @@ from itertools import combinations, permutations, product
 from fewplaymany.chains import rounds
 from fewplaymany.errors import BadHand, BadMany, BadRounds, BadTable, BadWeaving, BadWords, Done, NoProgram, TooMany
 from fewplaymany.houses import House
-from fewplaymany.players import Played
+from fewplaymany.players import forget, Played
 from fewplaymany.programs import Program
-from fewplaymany.reads import Reads, shows_plain_run, spans
-from fewplaymany.runs import judged
+from fewplaymany.reads import plain_run, Reads, shows_plain_run, spans
+from fewplaymany.runs import judged, run_in, run_text
 from fewplaymany.tables import decided, shows_decided, shows_wrong_row, Tabled, views, wrong_row
 from fewplaymany.tasks import judged_house, renamed, Task
+from fewplaymany.told import shows_told, told
 from helpers import bent, Case, PAIR, some_values
 from plain_players import PlainHouse, PlainPlayed
 from plain_tables import PlainTabled
@@ -195,6 +196,22 @@ class Playing(Case):
             self.same([house.said, house.boards], [tuple(beside.said), tuple(beside.boards)])
             self.same(judged(program, brought, house.run), ("run",))
 
+    def test_told(self):
+        for seed in range(30):
+            any_of = random.Random(seed)
+            inner = Tabled(2, any_of.randint(0, 2), ())
+            program = Played(inner, any_of.randint(1, 3))
+            house = House(program, tuple([any_of.choice((4, 7)) for _ in range(program.many)]))
+            for _ in range(60):
+                player = any_of.randrange(program.many)
+                if any_of.random() < 0.05 and house.next(player) is not None:
+                    forget(house, player)
+                house.weave((player,) * any_of.randint(1, 3))
+            words, paper = told(house)
+            steps = tuple([row[0] for row in paper])
+            self.same([judged(inner, words, steps), shows_told(house, (words, paper)), run_in(run_text(steps))], [("run",), True, steps])
+            self.same([judged(program, house.words, house.run), run_in(run_text(house.run)) == house.run], [("run",), True])
+
     def test_reads(self):
         for seed in range(30):
             any_of = random.Random(seed)
@@ -203,9 +220,7 @@ class Playing(Case):
             reads.weave(tuple([any_of.randrange(2) for _ in range(40)]))
             plain = [span for span in spans(reads) if span[1] == "write"]
             self.same([span[2] for span in plain], [(reads.words[span[0]],) for span in plain])
-            for value in bent(()):
-                self.same(shows_plain_run(reads, value), False)
-            self.same(reads.copy() == reads, True)
+            self.same([shows_plain_run(reads, plain_run(reads)), reads.copy() == reads], [True, True])
 
     def test_each_row_comes_and_no_other(self):
         # A table that tells each view by a word of its own.
@@ -337,6 +352,7 @@ class Wrong(Case):
             if not isinstance(value, Tabled):
                 self.refuses(NoProgram, value, wrong_row, Task(NEAR), value)
                 self.refuses(NoProgram, value, shows_wrong_row, Task(NEAR), value, None)
+                self.refuses(NoProgram, value, shows_wrong_row, Task(NEAR), value, "none")
 
     def test_too_many(self):
         def task(count):
@@ -351,6 +367,7 @@ class Wrong(Case):
             else:
                 self.refuses(TooMany, 20000, wrong_row, task(count), tabled)
                 self.refuses(TooMany, 20000, shows_wrong_row, task(count), tabled, None)
+                self.refuses(TooMany, 20000, shows_wrong_row, task(count), tabled, "none")
 
 
 class Decided(Case):
@@ -435,6 +452,26 @@ class Decided(Case):
         self.same([decided(Task(lines.replace("1 2 : 1 3 | 2 3", "1 2 : 1 4 | 2 4")), 3, number)[0] for number in (0, 1)],
                   ["none", "none"])
 
+    def test_tables_that_are_hard_to_find(self):
+        for text in ("0 : 0 1 5 | 0 2 7 | 2 4 6 | 1 5\n1 : 3 4 7 | 2 5 6 | 5 7 | 3 7\n2 : 4 | 1 | 4 5 6\n1 2 : 7 | 2 3 4 | 0 1 4 6 | 4 6 7 | "
+                     "2 3 5 6 | 2 7 | 3 5 | 1 6 7 | 5 6 | 3 7 | 2 3 4 | 3 7 | 3 4 | 1\n0 1 2 : 2 4 7 | 0 1 | 1 7 | 1 2 3 | 6 | 3 5 6 | 3 4 5 6 | "
+                     "6 | 0 5 | 3 5 | 0 2 3 7 | 1 5 7",
+                     "0 : 5 7 | 2 5 6 | 6\n1 : 0 3 5 | 0 1 2 3 | 1 5 | 4 7 | 0 2 | 7\n2 : 3 6 | 4 6\n0 2 : 6 | 0 2 | 2 7 | 5 6 | 6 7 | 4 5 7 | "
+                     "3 | 6 7 | 4\n1 2 : 0 1 5 | 2 5 7 | 0 3 6 | 6 | 0 1 4 7 | 2 3 5 | 1 | 1 2 3 | 4 7 | 0 1 2 | 4 5 | 0 4 | 0 | 0 2 | 1 4 | 4 5",
+                     "0 : 2 6 | 7 | 4 6 | 4 5 | 3 | 3 5 | 2\n1 : 0 1 6 7 | 1 3\n2 : 0 2 4 | 1 3 4 | 5\n0 2 : 2 3 4 5 6 7 | 0 | 5 7 | 4 | 1 4 | 2"):
+            found = decided(Task(text), 3, 1)
+            self.same([found[0], wrong_row(Task(text), found[1])], ["table", None])
+
+    def test_rings_that_no_table_fills(self):
+        # Each two words may be said together along a part of a ring, which nothing else fills.
+        for alone, pairs in ((("0", "3", "6"), ((0, 1, 2, 3), (3, 4, 5, 6), (6, 7, 0))), (("0 3", "1 4", "2 5"), ((0, 1, 3, 4), (1, 2, 4, 5), (0, 2, 3, 5)))):
+            walk = [[tuple(sorted(pair)) for pair in (zip(part, part[1:]) if len(alone[0]) == 1 else combinations(part, 2))] for part in pairs]
+            lots = ("0 1", "1 2", "0 2")
+            lines = [f"{word} : {end}" for word, end in enumerate(alone)]
+            lines += [f"{lot} : " + " | ".join([f"{one} {other}" for one, other in walk[at]]) for at, lot in enumerate(lots)]
+            task = Task("\n".join(lines))
+            self.same([decided(task, 3, 1), rounds(task) in (0, 1)], [("none",), True])
+
     def test_errors_in_sequence(self):
         four = Task("\n".join([f"{word} : 0" for word in range(4)]))
         for many in (0, 1, 4, True, None, "2", (2,)):
@@ -460,6 +497,9 @@ class Decided(Case):
             self.same(shows_decided(task, 2, 1, value), False, value)
         self.same([shows_decided(task, 2, 0, value) for value in (("none",), ["none"], ("none", None), None, "none", ("table",))],
                   [True, False, False, False, False, False])
+        # Tables that are right, for another number of hands or of rounds.
+        plain = Task("4 : 7")
+        self.same([shows_decided(plain, 2, 0, decided(plain, many, number)) for many, number in ((2, 0), (3, 0), (2, 1))], [True, False, False])
         apart = Task(APART)
         self.same([decided(apart, 2, 0)[0], shows_decided(apart, 2, 0, ("none",))], ["table", False])
 

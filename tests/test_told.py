@@ -3,14 +3,16 @@
 import random
 import unittest
 
+from fewplaymany.boxes import Filled
 from fewplaymany.errors import BadProgram, NotPlayed, Wide
 from fewplaymany.houses import House
 from fewplaymany.players import forget, Played
 from fewplaymany.programs import Program
 from fewplaymany.reads import Reads
 from fewplaymany.runs import judged, run_in
+from fewplaymany.tables import Tabled
 from fewplaymany.told import begun, behind, held, later, shows_told, told, told_through
-from helpers import Case, LEAST, PAIR, ROUNDS, some_values, text_of
+from helpers import ASKING, Case, LEAST, PAIR, ROUNDS, some_values, text_of
 from plain import Maker
 from plain_players import PlainHouse, PlainPlayed, PlainProgram
 from test_players import LONG, PARTING, WAITING
@@ -50,7 +52,10 @@ class NoPlayed(Case):
     def test_every_function(self):
         plain = House(Program(PAIR), (3, 7))
         plain.weave((0, 1))
-        for value in some_values() + [plain, Played(Program(PAIR), 2), Reads(Played(Program(PAIR), 2), (3, 7)), House, NoPlayed]:
+        tabled = Tabled(2, 1, ())
+        full = Filled(Program(ASKING), 0, Played(tabled, 2))
+        others = [House(tabled, (3, 7)), House(full, (3, 7)), House(Filled(Program(ASKING), 0, tabled), (3, None)), tabled, full]
+        for value in some_values() + others + [plain, Played(Program(PAIR), 2), Reads(Played(Program(PAIR), 2), (3, 7)), House, NoPlayed]:
             for call in (told, begun, held, behind, told_through):
                 self.refuses(NotPlayed, value, call, value)
                 self.refuses(NotPlayed, value, call, house=value)
