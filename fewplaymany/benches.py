@@ -206,11 +206,14 @@ class Bench:
 
 
 class Block:
-    """A block of a bench, with the bench as it was when the block was entered."""
+    """A block of a bench, with the bench as it was when the block was entered.
+
+    `kept` is None as long as the block is not kept, and True from then on.
+    """
 
     def __init__(self, bench):
         self.bench = bench
-        self.kept = False
+        self.kept = None
 
     def __enter__(self):
         bench = self.bench
@@ -227,7 +230,7 @@ class Block:
     def __exit__(self, kind, value, trace):
         bench = self.bench
         bench.around = self.around
-        if kind is not None or not self.kept:
+        if kind is not None or self.kept is None:
             bench.place = self.place
             bench.stopped = self.stopped
             bench.watched = self.watched

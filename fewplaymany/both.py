@@ -94,7 +94,7 @@ def shows_same_by(one, other, stops, value):
 def wall(many):
     """The Task in which any words may be said that were brought, but never so many as there are words."""
     check_many(many, 2)
-    lots = [lot for lot in lots_within(range(many)) if len(lot) < many]
+    lots = [lot for lot in lots_within(list(range(many))) if len(lot) < many]
     texts = [" ".join([str(word) for word in lot]) for lot in sorted(lots, key=by_size)]
     return Task("\n".join([f"{text} : {text}" for text in texts]))
 

@@ -32,6 +32,11 @@ BARRED_WORDS = (
     "gc getattr globals hasattr help id importlib license locals methodcaller os quit setattr super vars sys global async "
     "await lambda chr float"
 ).split()
+# What is iterated on the spot, and what may stand around it.
+LAZY = "range zip enumerate reversed map iter".split()
+VIEWS = "items keys values".split()
+TAKERS = "list tuple dict sorted sum any all enumerate zip min max".split()
+RANGE_TAKERS = [*TAKERS, "len", "reversed"]
 NODES = (ast.GeneratorExp, ast.Lambda, ast.Set, ast.AsyncFor, ast.AsyncWith, ast.Await, ast.Global, ast.Div, ast.AnnAssign)
 
 
@@ -53,6 +58,93 @@ def own_methods():
 def functions_called():
     """All nodes that are called."""
     return {id(node.func) for _, node in nodes(ast.Call)}
+
+
+def around(node):
+    """For each node in this one, the one that it stands in."""
+    return {inner: outer for outer in ast.walk(node) for inner in ast.iter_child_nodes(outer)}
+
+
+def is_lazy(node):
+    """Whether a node makes what has to be iterated on the spot."""
+    if not isinstance(node, ast.Call):
+        return False
+    if isinstance(node.func, ast.Name):
+        return node.func.id in LAZY
+    return isinstance(node.func, ast.Attribute) and node.func.attr in VIEWS
+
+
+def is_taken(node, outer, takers):
+    """Whether a node is iterated on the spot by what it stands in."""
+    if isinstance(outer, (ast.For, ast.comprehension)):
+        return outer.iter is node
+    if not isinstance(outer, ast.Call) or not isinstance(outer.func, ast.Name):
+        return False
+    return outer.func.id in takers and outer.args[0] is node
+
+
+def is_taken_range(node, outer):
+    """Whether a node, a range, is used by what it stands in as a kept one may be."""
+    if isinstance(outer, ast.Compare):
+        return outer.comparators == [node] and isinstance(outer.ops[0], (ast.In, ast.NotIn))
+    if isinstance(outer, ast.Subscript):
+        return outer.value is node and not isinstance(outer.slice, ast.Slice)
+    return is_taken(node, outer, RANGE_TAKERS)
+
+
+def is_range(node):
+    """Whether a node is a call of range."""
+    return is_lazy(node) and isinstance(node.func, ast.Name) and node.func.id == "range"
+
+
+def lazy_faults(tree):
+    """The lines of a tree at which something lazy is handed on, or kept; a range may be kept in a variable."""
+    outers = around(tree)
+    found = []
+    for node in [node for node in ast.walk(tree) if is_lazy(node)]:
+        outer = outers[node]
+        if is_range(node) and isinstance(outer, ast.Assign):
+            if not is_kept_range(outer, outers):
+                found.append(node.lineno)
+        elif not (is_taken_range(node, outer) if is_range(node) else is_taken(node, outer, TAKERS)):
+            found.append(node.lineno)
+    return found
+
+
+def is_kept_range(node, outers):
+    """Whether an assignment of a range is to a variable, assigned once, that is only used as a range may be."""
+    if len(node.targets) != 1 or not isinstance(node.targets[0], ast.Name):
+        return False
+    function = outers[node]
+    while not isinstance(function, (ast.FunctionDef, ast.Module)):
+        function = outers[function]
+    uses = [inner for inner in ast.walk(function) if isinstance(inner, ast.Name) and inner.id == node.targets[0].id]
+    return isinstance(function, ast.FunctionDef) and all(
+        inner is node.targets[0] or (isinstance(inner.ctx, ast.Load) and is_taken_range(inner, outers[inner])) for inner in uses)
+
+
+def is_plain_test(node):
+    """Whether a test only asks names and attributes whether they are None."""
+    if isinstance(node, ast.BoolOp):
+        return all(is_plain_test(inner) for inner in node.values)
+    if isinstance(node, ast.UnaryOp):
+        return isinstance(node.op, ast.Not) and is_plain_test(node.operand)
+    if not isinstance(node, ast.Compare) or not isinstance(node.left, (ast.Name, ast.Attribute)) or len(node.ops) != 1:
+        return False
+    other = node.comparators[0]
+    return isinstance(node.ops[0], (ast.Is, ast.IsNot)) and isinstance(other, ast.Constant) and other.value is None
+
+
+def exit_faults(rows):
+    """The lines of rows of __exit__ that are neither plain tests nor assignments of names and attributes."""
+    found = []
+    for row in rows:
+        if isinstance(row, ast.If):
+            found += [] if is_plain_test(row.test) else [row.lineno]
+            found += exit_faults([*row.body, *row.orelse])
+        elif not isinstance(row, ast.Assign) or not isinstance(row.value, (ast.Name, ast.Attribute)):
+            found.append(row.lineno)
+    return found
 
 
 class Language(unittest.TestCase):
@@ -119,6 +211,36 @@ class Language(unittest.TestCase):
                     self.assertNotIn(ast.unparse(inner.func.value), gone_over, place)
                 if isinstance(inner, ast.Subscript) and not isinstance(inner.ctx, ast.Load):
                     self.assertNotIn(ast.unparse(inner.value), gone_over, place)
+
+    def test_what_is_iterated_on_the_spot(self):
+        self.none((path.name, line) for path in FILES for line in lazy_faults(TREES[path]))
+
+    def test_what_is_not_iterated_on_the_spot_is_seen(self):
+        wrong = ("f(range(n))", "f(a, *range(n))", "f(by=zip(a, b))", "[d.items()]", "return enumerate(a)", "a.x = range(n)",
+                 "a = zip(b, c)", "a = range(n)\n f(a)", "a = range(n)\n a = b", "a = range(n)\n return a", "max(n, range(n))",
+                 "a = range(n) if n else b", "a.extend(d.values())", "len(d.keys())", "list(reversed(zip(a, b)))",
+                 "f(map(str, a))")
+        right = ("list(range(n))", "sorted(d.items())", "for a in enumerate(b): pass", "[a for a in zip(b, c)]", "len(range(n))",
+                 "a = range(n)\n f(list(a))", "a = range(n)\n [b for b in a if b in a]", "a = range(n)\n f(a[0])",
+                 "n in range(n)")
+        for text in wrong:
+            self.assertEqual(len(lazy_faults(ast.parse(f"def g(n):\n {text}"))), 1, text)
+        for text in right:
+            self.none(lazy_faults(ast.parse(f"def g(n):\n {text}")))
+
+    def test_rows_of_exit(self):
+        exits = [(place, node) for place, node in nodes(ast.FunctionDef) if node.name == "__exit__"]
+        self.assertTrue(exits)
+        self.none((place, exit_faults(node.body)) for place, node in exits if exit_faults(node.body))
+
+    def test_other_rows_of_exit_are_seen(self):
+        wrong = ("if self.kept: a = b", "if not self.kept: a = b", "if kind is not None or not self.kept: a = b",
+                 "if a == 1: a = b", "if a is True: a = b", "if a is None:\n self.f()", "f(a)", "a = f(b)", "a = not b")
+        right = ("if kind is not None or a.b is None: a = b", "if not (a is None and b is not None): a.b = c.d", "a.b = c")
+        for text in wrong:
+            self.assertEqual(len(exit_faults(ast.parse(text).body)), 1, text)
+        for text in right:
+            self.none(exit_faults(ast.parse(text).body))
 
     def test_stars_in_calls(self):
         for place, node in nodes(ast.Call):
